@@ -1,0 +1,54 @@
+// Package moor: addresses of things in a net: see DOC.md.
+package moor
+
+import (
+	"errors"
+
+	"moor/api"
+	"moor/escape"
+	"moor/fault"
+	"moor/host"
+)
+
+// Escape escapes the bytes of a set (P3).
+func Escape(text string, set int) string { return escape.Text(text, set) }
+
+// Unescape takes escapes away (P3).
+func Unescape(text string) string { return escape.Undo(text) }
+
+// Host tells a host as it must be (P4).
+func Host(text string, special bool) (string, api.Errno) {
+	if len(text) > api.MaxText {
+		return "", api.ErrLong
+	}
+	told, err := host.Tell(text, special)
+	return told, errnoOf(err)
+}
+
+// Parse tells an address as it must be (P5).
+func Parse(text string, base string) (string, api.Errno) { return "", api.OK }
+
+// Split takes an address apart (P6).
+func Split(text string) (api.Parts, api.Errno) { return api.Parts{}, api.OK }
+
+// Origin tells where it comes from (P6).
+func Origin(text string) (string, api.Errno) { return "", api.OK }
+
+// With gives an address another part (P7).
+func With(text string, part int, value string) (string, api.Errno) { return "", api.OK }
+
+// Pairs takes a query apart (P8).
+func Pairs(query string) ([]api.Pair, api.Errno) { return nil, api.OK }
+
+// Join makes a query of pairs (P8).
+func Join(pairs []api.Pair) (string, api.Errno) { return "", api.OK }
+
+// errnoOf asks for the outermost number: a layer that has one of its own speaks
+// for all that is within it.
+func errnoOf(err error) api.Errno {
+	var found fault.Fault
+	if errors.As(err, &found) {
+		return found.Errno
+	}
+	return api.OK
+}
