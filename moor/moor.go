@@ -4,6 +4,7 @@ package moor
 import (
 	"errors"
 
+	"moor/address"
 	"moor/api"
 	"moor/escape"
 	"moor/fault"
@@ -18,7 +19,7 @@ func Unescape(text string) string { return escape.Undo(text) }
 
 // Host tells a host as it must be (P4).
 func Host(text string, special bool) (string, api.Errno) {
-	if len(text) > api.MaxText {
+	if isLong(text) {
 		return "", api.ErrLong
 	}
 	told, err := host.Tell(text, special)
@@ -26,13 +27,34 @@ func Host(text string, special bool) (string, api.Errno) {
 }
 
 // Parse tells an address as it must be (P5).
-func Parse(text string, base string) (string, api.Errno) { return "", api.OK }
+func Parse(text string, base string) (string, api.Errno) {
+	if isLong(text) || isLong(base) {
+		return "", api.ErrLong
+	}
+	found, err := address.ReadBeside(text, base)
+	if err != nil {
+		return "", errnoOf(err)
+	}
+	return found.Tell(), api.OK
+}
 
 // Split takes an address apart (P6).
-func Split(text string) (api.Parts, api.Errno) { return api.Parts{}, api.OK }
+func Split(text string) (api.Parts, api.Errno) {
+	found, errno := readAlone(text)
+	if errno != api.OK {
+		return api.Parts{}, errno
+	}
+	return found.Parts(), api.OK
+}
 
 // Origin tells where it comes from (P6).
-func Origin(text string) (string, api.Errno) { return "", api.OK }
+func Origin(text string) (string, api.Errno) {
+	found, errno := readAlone(text)
+	if errno != api.OK {
+		return "", errno
+	}
+	return found.Origin(), api.OK
+}
 
 // With gives an address another part (P7).
 func With(text string, part int, value string) (string, api.Errno) { return "", api.OK }
@@ -42,6 +64,17 @@ func Pairs(query string) ([]api.Pair, api.Errno) { return nil, api.OK }
 
 // Join makes a query of pairs (P8).
 func Join(pairs []api.Pair) (string, api.Errno) { return "", api.OK }
+
+func isLong(text string) bool { return len(text) > api.MaxText }
+
+// readAlone reads an address without a base.
+func readAlone(text string) (address.Address, api.Errno) {
+	if isLong(text) {
+		return address.Address{}, api.ErrLong
+	}
+	found, err := address.Read(text, nil)
+	return found, errnoOf(err)
+}
 
 // errnoOf asks for the outermost number: a layer that has one of its own speaks
 // for all that is within it.

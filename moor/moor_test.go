@@ -25,7 +25,7 @@ func strange() []string {
 		for i := range text {
 			text[i] = bytes[source.Intn(len(bytes))]
 		}
-		texts = append(texts, string(text))
+		texts = append(texts, string(text), randomAddress(source))
 	}
 	return texts
 }
@@ -40,6 +40,9 @@ func TestP1NoCallPanics(t *testing.T) {
 		Pairs(text)
 		Parse(text, "")
 		Parse(text, text)
+		for _, base := range bases {
+			Parse(text, base)
+		}
 		for _, n := range numbers {
 			Escape(text, n)
 			With(text, n, text)
@@ -62,6 +65,17 @@ func TestP1NothingBesideAnError(t *testing.T) {
 				t.Errorf("Host(%q, %v) = nothing, without an error", text, special)
 			}
 		}
+		for _, base := range append([]string{"", text}, bases...) {
+			if told, errno := Parse(text, base); (errno == api.OK) != (told != "") {
+				t.Errorf("Parse(%q, %q) = %q beside %d", text, base, told, errno)
+			}
+		}
+		if parts, errno := Split(text); (errno == api.OK) != (parts != api.Parts{}) {
+			t.Errorf("Split(%q) = %+v beside %d", text, parts, errno)
+		}
+		if origin, errno := Origin(text); (errno == api.OK) != (origin != "") {
+			t.Errorf("Origin(%q) = %q beside %d", text, origin, errno)
+		}
 	}
 }
 
@@ -76,13 +90,18 @@ func TestP1FirstErrorIsTold(t *testing.T) {
 }
 
 type answer struct {
-	escaped, unescaped, told string
-	errno                    api.Errno
+	escaped, unescaped, host, told, origin string
+	parts                                  api.Parts
+	errnos                                 [4]api.Errno
 }
 
 func ask(text string, n int) answer {
-	told, errno := Host(text, n%2 == 0)
-	return answer{Escape(text, n%7), Unescape(text), told, errno}
+	a := answer{escaped: Escape(text, n%7), unescaped: Unescape(text)}
+	a.host, a.errnos[0] = Host(text, n%2 == 0)
+	a.told, a.errnos[1] = Parse(text, bases[n%len(bases)])
+	a.parts, a.errnos[2] = Split(text)
+	a.origin, a.errnos[3] = Origin(text)
+	return a
 }
 
 func TestP2AnswersHangOnArgumentsAlone(t *testing.T) {
