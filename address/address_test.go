@@ -45,6 +45,57 @@ func TestFaultsAreWrappedToTheBottom(t *testing.T) {
 	}
 }
 
+func TestFaultsOfWithAreWrappedToTheBottom(t *testing.T) {
+	for _, c := range []struct {
+		text  string
+		part  int
+		value string
+		errno api.Errno
+		want  string
+	}{
+		{"x:y", 9, "a", api.ErrPart, `address "x:y": part "9": none of the eight`},
+		{"x:y", api.PartScheme, "1:2", api.ErrPart, `address "x:y": scheme "1:2": no scheme`},
+		{"x:y", api.PartScheme, "http", api.ErrPart, `address "x:y": scheme "http": of another kind`},
+		{"http://H", api.PartScheme, "file", api.ErrPart, `address "http://h/": scheme "file": of another kind`},
+		{"file:", api.PartPassword, "a", api.ErrPart, `address "file:///": part "3": no host to stand beside`},
+		{"x:y", api.PartHost, "a", api.ErrPart, `address "x:y": host "a": the path is opaque`},
+		{"x://u@h", api.PartHost, "\t", api.ErrPart, `address "x://u@h": host "": a user, a password or a port stands beside it`},
+		{"http://h", api.PartHost, "", api.ErrHost, `address "http://h/": host "": empty`},
+		{"x://h", api.PartHost, "[::g]", api.ErrHost, `address "x://h": host "[::g]": IP6 "::g": piece "g": byte 103 at place 0`},
+		{"file://h", api.PartHost, "1.256.1", api.ErrHost, `address "file://h/": host "1.256.1": IP4 "1.256.1": number "256": too great`},
+		{"x://h", api.PartPort, "-1", api.ErrPort, `address "x://h": port "-1": strconv.ParseUint: parsing "-1": invalid syntax`},
+		{"x:y", api.PartPath, "a", api.ErrPart, `address "x:y": path "a": the path is opaque`},
+		{"x:/y", api.PartPath, "", api.ErrPart, `address "x:/y": path "": no host`},
+	} {
+		was, err := Read(c.text, nil)
+		if err != nil {
+			t.Fatal(err)
+		}
+		found, err := was.With(c.part, c.value)
+		var outer fault.Fault
+		if !reflect.DeepEqual(found, Address{}) || !errors.As(err, &outer) || outer.Errno != c.errno || err.Error() != c.want {
+			t.Errorf("%q with %d, %q: %+v, %v, want %s", c.text, c.part, c.value, found, err, c.want)
+		}
+	}
+}
+
+func TestWithLeavesTheAddress(t *testing.T) {
+	for _, text := range []string{"http://u:p@h:81/a/b/c?q#f", "file:///C:/a/b?q", "x:/a/b", "x:y?q#f", "x://h"} {
+		was, err := Read(text, nil)
+		if err != nil {
+			t.Fatal(err)
+		}
+		for part := range 10 {
+			for _, value := range []string{"", "y", "ftp", "1", "/d/../e", "a b"} {
+				was.With(part, value)
+				if was.Tell() != text {
+					t.Fatalf("%q with %d, %q: it is %q now", text, part, value, was.Tell())
+				}
+			}
+		}
+	}
+}
+
 func TestLayersAreFoundByTheirTypes(t *testing.T) {
 	_, err := ReadBeside("a", "http://[::1.2.3.4x]")
 	var base fault.Fault
@@ -59,7 +110,7 @@ func TestLayersAreFoundByTheirTypes(t *testing.T) {
 		t.Errorf("of a port: %v", err)
 	}
 	_, err = Read("a", nil)
-	if !errors.Is(err, errNoBase) || errors.Is(err, errOpaque) {
+	if !errors.Is(err, errNoBase) || errors.Is(err, errOpaqueBase) {
 		t.Errorf("of a relative one: %v", err)
 	}
 }

@@ -72,8 +72,13 @@ func readPort(text, scheme string) (int, error) {
 	if err != nil {
 		return NoPort, fault.Fault{Errno: api.ErrPort, Thing: "port", Text: text, Within: err}
 	}
-	if own, _ := ownPort(scheme); int(port) == own {
-		return NoPort, nil
+	return portBeside(int(port), scheme), nil
+}
+
+// portBeside leaves out a port that goes without saying.
+func portBeside(port int, scheme string) int {
+	if own, _ := ownPort(scheme); port == own {
+		return NoPort
 	}
-	return int(port), nil
+	return port
 }

@@ -8,9 +8,16 @@ import (
 )
 
 var (
-	errNoBase = errors.New("no base")
-	errOpaque = errors.New("the base's path is opaque")
-	errNoHost = errors.New("no host")
+	errNoBase     = errors.New("no base")
+	errOpaqueBase = errors.New("the base's path is opaque")
+	errNoHost     = errors.New("no host")
+
+	errNoPart    = errors.New("none of the eight")
+	errNoScheme  = errors.New("no scheme")
+	errOtherKind = errors.New("of another kind")
+	errBareHost  = errors.New("no host to stand beside")
+	errBeside    = errors.New("a user, a password or a port stands beside it")
+	errOpaque    = errors.New("the path is opaque")
 )
 
 // Error is a text that is no address.
@@ -25,4 +32,8 @@ func (e Error) Unwrap() error { return e.Within }
 
 func errRelative(within error) error {
 	return fault.Fault{Errno: api.ErrRelative, Thing: "scheme", Within: within}
+}
+
+func errPart(thing, value string, within error) error {
+	return fault.Fault{Errno: api.ErrPart, Thing: thing, Text: value, Within: within}
 }

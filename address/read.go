@@ -55,7 +55,7 @@ func (m marks) readAsNamed(base *Address) (Address, error) {
 
 func (m marks) readBesideOpaque(base Address) (Address, error) {
 	if !m.isFragmentAlone() {
-		return Address{}, errRelative(errOpaque)
+		return Address{}, errRelative(errOpaqueBase)
 	}
 	base.Fragment = m.fragment.escaped(api.Fragment)
 	return base, nil

@@ -9,12 +9,17 @@ import (
 
 const capitals = "0123456789ABCDEF"
 
-// Text escapes the bytes of the set.
-func Text(text string, set int) string {
+// Text escapes the bytes of the set of that number.
+func Text(text string, number int) string { return setOf(number).escape(text) }
+
+// Pair escapes what may not stand as it is in a name or a value of a query.
+func Pair(text string) string { return pairSet.escape(text) }
+
+func (s set) escape(text string) string {
 	var out strings.Builder
 	for i := 0; i < len(text); i++ {
 		b := text[i]
-		if !Holds(set, b) {
+		if !s.holds(b) {
 			out.WriteByte(b)
 			continue
 		}

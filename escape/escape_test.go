@@ -39,6 +39,20 @@ func TestEachByteOfEachSet(t *testing.T) {
 	}
 }
 
+func TestEachByteOfAPair(t *testing.T) {
+	const stays = "ABCDEFGHIJKLMNOPQRSTUVWXYZabcdefghijklmnopqrstuvwxyz0123456789*-._"
+	for i := range 256 {
+		text := string([]byte{byte(i)})
+		want := fmt.Sprintf("%%%02X", i)
+		if strings.Contains(stays, text) {
+			want = text
+		}
+		if got := Pair(text); got != want {
+			t.Errorf("Pair(byte %d) = %q, want %q", i, got, want)
+		}
+	}
+}
+
 func TestNoSet(t *testing.T) {
 	for _, set := range []int{-1, 7, 8, 63, 64, 256, 1 << 40, -1 << 63, 1<<63 - 1} {
 		for i := 0; i < 256; i++ {

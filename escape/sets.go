@@ -15,13 +15,16 @@ const (
 	path      = query | 1<<'?' | 1<<'^' | 1<<'`' | 1<<'{' | 1<<'}'
 	user      = path | 1<<'/' | 1<<':' | 1<<';' | 1<<'=' | 1<<'@' | 1<<'[' | 1<<'\\' | 1<<']' | 1<<'|'
 	component = user | 1<<'$' | 1<<'%' | 1<<'&' | 1<<'+' | 1<<','
+	pair      = component | 1<<'!' | 1<<'\'' | 1<<'(' | 1<<')' | 1<<'~'
 )
 
 const word = 1<<64 - 1
 
-// sets has the same bits by set and word, since no variable is wide enough for
-// a whole set.
-var sets = [7][4]uint64{
+// set has the same bits by word, since no variable is wide enough for them all.
+type set [4]uint64
+
+// sets has those that a number names.
+var sets = [7]set{
 	api.Control:   {control & word, control >> 64 & word, control >> 128 & word, control >> 192},
 	api.Fragment:  {fragment & word, fragment >> 64 & word, fragment >> 128 & word, fragment >> 192},
 	api.Query:     {query & word, query >> 64 & word, query >> 128 & word, query >> 192},
@@ -31,11 +34,18 @@ var sets = [7][4]uint64{
 	api.Component: {component & word, component >> 64 & word, component >> 128 & word, component >> 192},
 }
 
-// Holds tells whether the byte is one of the set. A set that is none of the
-// seven holds nothing.
-func Holds(set int, b byte) bool {
-	if set < 0 || set >= len(sets) {
-		return false
+// pairSet stands by itself: no number names it.
+var pairSet = set{pair & word, pair >> 64 & word, pair >> 128 & word, pair >> 192}
+
+// Holds tells whether the byte is one of the set of that number.
+func Holds(number int, b byte) bool { return setOf(number).holds(b) }
+
+// setOf gives a set that holds nothing, if the number is none of the seven.
+func setOf(number int) set {
+	if number < 0 || number >= len(sets) {
+		return set{}
 	}
-	return sets[set][b/64]>>(b%64)&1 == 1
+	return sets[number]
 }
+
+func (s set) holds(b byte) bool { return s[b/64]>>(b%64)&1 == 1 }

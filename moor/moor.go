@@ -8,6 +8,7 @@ import (
 	"moor/api"
 	"moor/escape"
 	"moor/fault"
+	"moor/fields"
 	"moor/host"
 )
 
@@ -31,11 +32,7 @@ func Parse(text string, base string) (string, api.Errno) {
 	if isLong(text) || isLong(base) {
 		return "", api.ErrLong
 	}
-	found, err := address.ReadBeside(text, base)
-	if err != nil {
-		return "", errnoOf(err)
-	}
-	return found.Tell(), api.OK
+	return tell(address.ReadBeside(text, base))
 }
 
 // Split takes an address apart (P6).
@@ -57,15 +54,54 @@ func Origin(text string) (string, api.Errno) {
 }
 
 // With gives an address another part (P7).
-func With(text string, part int, value string) (string, api.Errno) { return "", api.OK }
+func With(text string, part int, value string) (string, api.Errno) {
+	if isLong(value) {
+		return "", api.ErrLong
+	}
+	found, errno := readAlone(text)
+	if errno != api.OK {
+		return "", errno
+	}
+	return tell(found.With(part, value))
+}
 
 // Pairs takes a query apart (P8).
-func Pairs(query string) ([]api.Pair, api.Errno) { return nil, api.OK }
+func Pairs(query string) ([]api.Pair, api.Errno) {
+	if isLong(query) {
+		return nil, api.ErrLong
+	}
+	return fields.Read(query), api.OK
+}
 
 // Join makes a query of pairs (P8).
-func Join(pairs []api.Pair) (string, api.Errno) { return "", api.OK }
+func Join(pairs []api.Pair) (string, api.Errno) {
+	if areLong(pairs) {
+		return "", api.ErrLong
+	}
+	return fields.Tell(pairs), api.OK
+}
 
 func isLong(text string) bool { return len(text) > api.MaxText }
+
+// areLong looks at the sum after each pair: of a list that goes on and on it
+// would wrap round.
+func areLong(pairs []api.Pair) bool {
+	sum := 0
+	for _, pair := range pairs {
+		sum += len(pair.Name) + len(pair.Value)
+		if sum > api.MaxText {
+			return true
+		}
+	}
+	return false
+}
+
+func tell(found address.Address, err error) (string, api.Errno) {
+	if err != nil {
+		return "", errnoOf(err)
+	}
+	return found.Tell(), api.OK
+}
 
 // readAlone reads an address without a base.
 func readAlone(text string) (address.Address, api.Errno) {

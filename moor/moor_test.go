@@ -2,6 +2,7 @@ package moor
 
 import (
 	"math/rand"
+	"slices"
 	"strings"
 	"sync"
 	"testing"
@@ -46,7 +47,9 @@ func TestP1NoCallPanics(t *testing.T) {
 		for _, n := range numbers {
 			Escape(text, n)
 			With(text, n, text)
-			With("a://b/c", n, text)
+			for _, base := range bases {
+				With(base, n, text)
+			}
 		}
 		Join([]api.Pair{{Name: text, Value: text}, {}})
 	}
@@ -76,6 +79,19 @@ func TestP1NothingBesideAnError(t *testing.T) {
 		if origin, errno := Origin(text); (errno == api.OK) != (origin != "") {
 			t.Errorf("Origin(%q) = %q beside %d", text, origin, errno)
 		}
+		for _, n := range numbers {
+			for _, base := range []string{text, "http://u@h:81/a", "x:/a", "x:b", "file:///"} {
+				if told, errno := With(base, n, text); (errno == api.OK) != (told != "") {
+					t.Errorf("With(%q, %d, %q) = %q beside %d", base, n, text, told, errno)
+				}
+			}
+		}
+		if pairs, errno := Pairs(text); errno != api.OK && len(pairs) > 0 {
+			t.Errorf("Pairs(%q) = %q beside %d", text, pairs, errno)
+		}
+		if query, errno := Join([]api.Pair{{Name: text, Value: text}}); (errno == api.OK) != (query != "") {
+			t.Errorf("Join of %q = %q beside %d", text, query, errno)
+		}
 	}
 }
 
@@ -90,9 +106,10 @@ func TestP1FirstErrorIsTold(t *testing.T) {
 }
 
 type answer struct {
-	escaped, unescaped, host, told, origin string
-	parts                                  api.Parts
-	errnos                                 [4]api.Errno
+	escaped, unescaped, host, told, origin, with, query string
+	parts                                               api.Parts
+	last                                                api.Pair
+	errnos                                              [7]api.Errno
 }
 
 func ask(text string, n int) answer {
@@ -101,6 +118,13 @@ func ask(text string, n int) answer {
 	a.told, a.errnos[1] = Parse(text, bases[n%len(bases)])
 	a.parts, a.errnos[2] = Split(text)
 	a.origin, a.errnos[3] = Origin(text)
+	a.with, a.errnos[4] = With(bases[n%len(bases)], 1+n%8, text)
+	pairs, errno := Pairs(text)
+	if len(pairs) > 0 {
+		a.last = pairs[len(pairs)-1]
+	}
+	a.errnos[5] = errno
+	a.query, a.errnos[6] = Join(append(pairs, api.Pair{Name: text}))
 	return a
 }
 
@@ -128,6 +152,20 @@ func TestP2ListsAreNotWrittenInto(t *testing.T) {
 	Join(pairs[:2])
 	if pairs[0] != (api.Pair{Name: "a b", Value: "%"}) || pairs[1] != (api.Pair{Name: "", Value: "+"}) || pairs[2] != (api.Pair{Name: "spare", Value: "room"}) {
 		t.Errorf("Join wrote into its list: %q", pairs)
+	}
+}
+
+func TestP2ListsAreNewMemory(t *testing.T) {
+	const query = "a=1&b=2&c=3"
+	first, _ := Pairs(query)
+	second, _ := Pairs(query)
+	for i := range first[:cap(first)] {
+		first[:cap(first)][i] = api.Pair{Name: "x", Value: "y"}
+	}
+	third, _ := Pairs(query)
+	want := []api.Pair{{Name: "a", Value: "1"}, {Name: "b", Value: "2"}, {Name: "c", Value: "3"}}
+	if !slices.Equal(second, want) || !slices.Equal(third, want) {
+		t.Errorf("what is written into one list is in another one: %q, %q", second, third)
 	}
 }
 

@@ -60,6 +60,32 @@ func checkTold(t *testing.T, told string) {
 	if errno != api.OK || tellParts(parts) != told {
 		t.Errorf("Split(%q) = %+v, %d", told, parts, errno)
 	}
+	for part, value := range partsOf(parts) {
+		if again, errno := With(told, part, value); again != told || errno != api.OK {
+			t.Errorf("With(%q, %d, %q) = %q, %d", told, part, value, again, errno)
+		}
+	}
+}
+
+// partsOf has the parts that an address has and that can be given to it again.
+func partsOf(p api.Parts) map[int]string {
+	parts := map[int]string{api.PartScheme: p.Scheme}
+	if !p.Opaque {
+		parts[api.PartPath] = p.Path
+	}
+	if p.HasHost {
+		parts[api.PartHost] = p.Host
+	}
+	if p.User != "" {
+		parts[api.PartUser] = p.User
+	}
+	if p.Password != "" {
+		parts[api.PartPassword] = p.Password
+	}
+	if p.Port != -1 {
+		parts[api.PartPort] = strconv.Itoa(p.Port)
+	}
+	return parts
 }
 
 func TestP9ToldIsReadAsItself(t *testing.T) {
